@@ -64,7 +64,7 @@ func (w *printer) list(ahead, between, behind string, kids []int) {
 	w.wait(ahead, kids[0])
 }
 
-// caseLetter takes any case that is not named for CaseMatch, as prog does.
+// caseLetter takes a case that has no name for CaseMatch, as the chapter of prog does.
 func caseLetter(casing uint8) string {
 	switch casing {
 	case api.CaseAsked:
